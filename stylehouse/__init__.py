@@ -1,0 +1,1 @@
+"""Stylehouse: a house of sheets, laid out exactly."""
