@@ -1,33 +1,39 @@
 """Claims: which rows speak of a property of a box, the strongest first."""
 
-from stylehouse.patterns import fits, weight_of
+from stylehouse.patterns import fitted, weight_of
 
 
 def claims_of(tree, sheet, box, prop):
-    return [one[2] for one in ranked(tree, sheet, box) if one[1] == prop]
+    return [one[2] for one in ranked(tree, sheet, [box])[box] if one[1] == prop]
 
 
 def winner_of(tree, sheet, box, prop):
-    return winners_of(tree, sheet, box).get(prop)
+    return winners_of(tree, sheet, [box])[box].get(prop)
 
 
-def winners_of(tree, sheet, box):
-    # Of all properties at once, so that each rule is asked once for a box. What has no claim is left out.
+def winners_of(tree, sheet, boxes):
+    # Of each of some boxes the winners of all properties; what has no claim is left out. All at once, since what is
+    # found of a pattern for one box serves the next ones.
     found = {}
-    for one in ranked(tree, sheet, box):
-        found.setdefault(one[1], one[2])
+    for box, claims in ranked(tree, sheet, boxes).items():
+        found[box] = {}
+        for one in claims:
+            found[box].setdefault(one[1], one[2])
     return found
 
 
-def ranked(tree, sheet, box):
-    # Tuples (rank, property, claim), the strongest first.
-    found = own_claims(tree, box)
+def ranked(tree, sheet, boxes):
+    # Of each box a list of tuples (rank, property, claim), the strongest first.
+    found = {}
+    for box in boxes:
+        found[box] = own_claims(tree, box)
     for number in sheet.numbers():
         rule = sheet.rule_of(number)
-        weight = rule_weight(tree, rule, box)
-        if weight is not None:
-            found.extend(rule_claims(number, rule, weight))
-    return sorted(found, key=lambda one: one[0])
+        for box, weight in rule_weights(tree, rule, boxes).items():
+            found[box].extend(rule_claims(number, rule, weight))
+    for box in boxes:
+        found[box] = sorted(found[box], key=lambda one: one[0])
+    return found
 
 
 def own_claims(tree, box):
@@ -47,6 +53,11 @@ def rule_claims(number, rule, weight):
     return found
 
 
-def rule_weight(tree, rule, box):
-    # None where the rule doesn't fit the box.
-    return max([weight_of(pattern) for pattern in rule[1] if fits(tree, pattern, box)], default=None)
+def rule_weights(tree, rule, boxes):
+    # Of those of some boxes that the rule fits its weight for each.
+    weights = {}
+    for pattern in rule[1]:
+        weight = weight_of(pattern)
+        for box in fitted(tree, pattern, boxes):
+            weights[box] = max(weights.get(box, weight), weight)
+    return weights

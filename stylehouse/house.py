@@ -1,12 +1,12 @@
 """A house: a tree, a sheet and a window, changed by deeds and laid at each settling."""
 
-from stylehouse.claims import rule_weight
+from stylehouse.claims import rule_weights
 from stylehouse.errors import NoBox, Unsettled
 from stylehouse.props import check_prop
 from stylehouse.settling import Settling
 from stylehouse.sheet import Sheet, check_rows
 from stylehouse.tree import Tree
-from stylehouse.walks import beneath, behind, gathered
+from stylehouse.walks import beneath, behind
 
 
 class House:
@@ -78,16 +78,16 @@ class House:
 
     def add(self, rule):
         number = self.sheet.add(rule)
-        self.doubt(self.fitted(rule))
+        self.doubt_by(rule)
         return number
 
     def drop(self, number):
         rule = self.sheet.drop(number)
-        self.doubt(self.fitted(rule))
+        self.doubt_by(rule)
         return rule
 
-    def fitted(self, rule):
-        return gathered(self.tree, 0, lambda box: rule_weight(self.tree, rule, box) is not None)
+    def doubt_by(self, rule):
+        self.doubt(list(rule_weights(self.tree, rule, [0] + beneath(self.tree, 0))))
 
     def window(self, width):
         if self.width == width:

@@ -11,7 +11,13 @@ def ends_of(tree, pattern):
 
 
 def fits(tree, pattern, box):
-    return reaches(tree, pattern, len(pattern) - 1, box, {})
+    return fitted(tree, pattern, [box]) != []
+
+
+def fitted(tree, pattern, boxes):
+    # Those of some boxes that the pattern fits. What was found for one of them serves the next ones.
+    known = {}
+    return [box for box in boxes if reaches(tree, pattern, len(pattern) - 1, box, known)]
 
 
 def chain_of(tree, pattern, box):
@@ -20,7 +26,7 @@ def chain_of(tree, pattern, box):
         return None
     chain = [box]
     for place in range(len(pattern) - 1, 0, -1):
-        chain.append(links_of(tree, pattern, place, chain[-1], known)[0])
+        chain.append(link_of(tree, pattern, place, chain[-1], known))
     return list(reversed(chain))
 
 
@@ -41,15 +47,17 @@ def reaches(tree, pattern, place, box, known):
     key = (place, box)
     if key not in known:
         known[key] = has_all(tree, box, pattern[place][1]) and (
-            place == 0 or links_of(tree, pattern, place, box, known) != []
+            place == 0 or link_of(tree, pattern, place, box, known) is not None
         )
     return known[key]
 
 
-def links_of(tree, pattern, place, box, known):
-    # The boxes that may stand ahead of this one in a chain in which it stands at this place.
-    some = joined_to(tree, pattern[place][0], box)
-    return [one for one in some if reaches(tree, pattern, place - 1, one, known)]
+def link_of(tree, pattern, place, box, known):
+    # A box that may stand ahead of this one in a chain in which this one stands at the place, None where there is none.
+    for one in joined_to(tree, pattern[place][0], box):
+        if reaches(tree, pattern, place - 1, one, known):
+            return one
+    return None
 
 
 def joined_to(tree, join, box):
@@ -64,4 +72,7 @@ def joined_to(tree, join, box):
 
 
 def has_all(tree, box, traits):
-    return all([trait_of(told).fits(tree, box) for told in traits])
+    for told in traits:
+        if not trait_of(told).fits(tree, box):
+            return False
+    return True

@@ -32,8 +32,7 @@ class Settling:
             memo.forget(box)
 
     def settle(self, tree, sheet, width, doubted):
-        for box in doubted:
-            self.winners[box] = winners_of(tree, sheet, box)
+        self.winners.update(winners_of(tree, sheet, doubted))
         order = [0] + beneath(tree, 0)
         self.find_values(tree, order)
         self.find_widths(tree, order, width)

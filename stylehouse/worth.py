@@ -7,7 +7,7 @@ from stylehouse.walks import beneath
 
 
 def told_of(tree, sheet, box):
-    return told_by(winners_of(tree, sheet, box))
+    return told_by(winners_of(tree, sheet, [box])[box])
 
 
 def told_by(winners):
@@ -84,8 +84,10 @@ def lowered(value):
 
 
 def worth_of(tree, sheet):
+    order = [0] + beneath(tree, 0)
+    winners = winners_of(tree, sheet, order)
     worth = {}
-    for box in [0] + beneath(tree, 0):
+    for box in order:
         holder = tree.holder_of(box)
-        worth[box] = kept_of(told_of(tree, sheet, box), None if holder is None else worth[holder])
+        worth[box] = kept_of(told_by(winners[box]), None if holder is None else worth[holder])
     return worth
