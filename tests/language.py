@@ -1,6 +1,7 @@
 """Looks for code outside the part of Python that the package keeps to.
 
-It sees what can be seen of one file by its form: most of L2 to L8, L10, L12, L14, L16, L17, L19, L20, L25, L27.
+It sees what can be seen of one file by its form, most of L2 to L8, L10, L12 to L28, and of all files together
+which names are both methods and values (L18). Where a rule may be read in two ways, it holds to the narrower one.
 """
 
 import ast
@@ -33,6 +34,16 @@ WORDS = re.compile(
     r"|NamedTuple|TypedDict|TYPE_CHECKING|abstractmethod)\b|dataclass|overload|contextmanager"
 )
 UNUSED = set("register mro elements open input version_info with_traceback add_note format format_map".split())
+NO_VALUES = set(
+    "items keys values pop update append clear extend insert remove reverse setdefault sort args encode format".split()
+)
+KEYWORDS = {
+    "sorted": {"key", "reverse"}, "min": {"key", "default"}, "max": {"key", "default"}, "sum": {"start"},
+    "enumerate": {"start"}, "zip": {"strict"},
+}
+WALKED = {"zip", "enumerate", "reversed", "range"}
+WALKED_METHODS = {"items", "keys", "values"}
+WALKERS = {"list", "tuple", "dict", "sorted", "sum", "any", "all", "enumerate", "zip", "min", "max"}
 
 
 def signs_of(source):
@@ -159,6 +170,182 @@ def expression_faults(node):
     return found
 
 
+def is_plain(node, functions):
+    """Whether a value of a file's top is plain: L3."""
+    if isinstance(node, ast.Constant):
+        return True
+    if isinstance(node, ast.Name):
+        return node.id in functions
+    if isinstance(node, (ast.Tuple, ast.List)):
+        return all(is_plain(part, functions) for part in node.elts)
+    if isinstance(node, ast.Dict):
+        return all(is_plain(part, functions) for part in node.keys + node.values)
+    return False
+
+
+def top_value_faults(tree):
+    found = []
+    functions = []
+    for node in tree.body:
+        if isinstance(node, ast.FunctionDef):
+            functions.append(node.name)
+        elif isinstance(node, ast.Assign):
+            if not is_plain(node.value, functions):
+                found.append((node.lineno, "L3"))
+            within = [part for part in ast.walk(node.value) if isinstance(part, (ast.List, ast.Dict))]
+            if [part for part in within if part is not node.value]:
+                found.append((node.lineno, "L15"))
+    return found
+
+
+def local_faults(tree):
+    """No parameter and no local is called like a class or an import of its file, or like a name of Python's own."""
+    taken = set()
+    for node in tree.body:
+        if isinstance(node, ast.ImportFrom):
+            taken.update(alias.asname or alias.name for alias in node.names)
+        elif isinstance(node, ast.ClassDef):
+            taken.add(node.name)
+    found = []
+    top = [node.targets[0] for node in tree.body if isinstance(node, ast.Assign)]
+    for node in ast.walk(tree):
+        names = []
+        if isinstance(node, ast.arg):
+            names = [node.arg]
+        elif isinstance(node, ast.Name) and isinstance(node.ctx, ast.Store) and node not in top:
+            names = [node.id]
+        elif isinstance(node, ast.ExceptHandler) and node.name:
+            names = [node.name]
+        found.extend((node.lineno, "L15") for name in names if name in taken or hasattr(builtins, name))
+    return found
+
+
+def walked_places(tree):
+    """The calls of zip, range, items and their like that are walked on the spot: L23."""
+    fine = set()
+    for node in ast.walk(tree):
+        if isinstance(node, (ast.For, ast.comprehension)):
+            fine.add(node.iter)
+        if isinstance(node, ast.Call) and isinstance(node.func, ast.Name) and node.func.id in WALKERS:
+            alone = node.func.id in ("min", "max")
+            if node.args and (not alone or len(node.args) == 1):
+                fine.update(node.args if node.func.id == "zip" else node.args[:1])
+        joins = isinstance(node, ast.Call) and isinstance(node.func, ast.Attribute) and node.func.attr == "join"
+        if joins and isinstance(node.func.value, ast.Constant):
+            fine.update(node.args)
+    return fine
+
+
+def walk_faults(tree):
+    fine = walked_places(tree)
+    found = []
+    for node in ast.walk(tree):
+        if not isinstance(node, ast.Call) or node in fine:
+            continue
+        named = isinstance(node.func, ast.Name) and node.func.id in WALKED
+        if named or isinstance(node.func, ast.Attribute) and node.func.attr in WALKED_METHODS:
+            found.append((node.lineno, "L23"))
+    for node in ast.walk(tree):
+        if isinstance(node, ast.For):
+            found.extend((node.lineno, "L23") for part in ast.walk(node.iter) if is_changed_in(part, node.body))
+    return found
+
+
+def is_changed_in(walked, body):
+    """Whether what a loop walks, a name or an attribute, is changed in its body."""
+    if not isinstance(walked, (ast.Name, ast.Attribute)):
+        return False
+    told = ast.unparse(walked)
+    changing = {"append", "clear", "extend", "insert", "pop", "remove", "reverse", "setdefault", "update"}
+    for statement in body:
+        for node in ast.walk(statement):
+            if isinstance(node, ast.Call) and isinstance(node.func, ast.Attribute) and node.func.attr in changing:
+                if ast.unparse(node.func.value) == told:
+                    return True
+            if isinstance(node, ast.Subscript) and isinstance(node.ctx, ast.Store) and ast.unparse(node.value) == told:
+                return True
+    return False
+
+
+def call_faults(node):
+    """Keywords and what isinstance is asked: L22; a set: L24, held narrower than the rule."""
+    found = []
+    if isinstance(node.func, ast.Name) and node.func.id in BUILTINS:
+        allowed = KEYWORDS.get(node.func.id, set())
+        found.extend("L22" for one in node.keywords if one.arg not in allowed)
+        if node.func.id in ("set", "frozenset"):
+            found.append("L24")
+    if isinstance(node.func, ast.Attribute) and node.func.attr in METHODS and node.keywords:
+        found.append("L22")
+    return found
+
+
+def handed_faults(tree, methods):
+    """Methods and functions of Python's own that are handed on instead of called: L22, L25; classes kept: L18."""
+    called = {node.func for node in ast.walk(tree) if isinstance(node, ast.Call)}
+    classes = {node.name for node in ast.walk(tree) if isinstance(node, ast.ClassDef)}
+    bases = {part for node in ast.walk(tree) if isinstance(node, ast.ClassDef) for part in node.bases}
+    asked = set()
+    keys = set()
+    for node in ast.walk(tree):
+        if isinstance(node, ast.Call):
+            keys.update(one.value for one in node.keywords if one.arg == "key")
+            if isinstance(node.func, ast.Name) and node.func.id == "isinstance":
+                asked.update(ast.walk(node.args[1]))
+        if isinstance(node, ast.ExceptHandler) and node.type is not None:
+            asked.update(ast.walk(node.type))
+        if isinstance(node, ast.Raise) and (not isinstance(node.exc, ast.Call)):
+            asked.add(node.exc)
+    found = []
+    for node in ast.walk(tree):
+        if node in called or node in keys or node in asked or node in bases:
+            continue
+        if isinstance(node, ast.Attribute) and isinstance(node.ctx, ast.Load) and node.attr in methods:
+            found.append((node.lineno, "L25"))
+        if isinstance(node, ast.Name) and isinstance(node.ctx, ast.Load):
+            if node.id in BUILTINS:
+                found.append((node.lineno, "L22"))
+            if node.id in classes:
+                found.append((node.lineno, "L18"))
+    return found
+
+
+def other_faults(tree):
+    found = []
+    for node in ast.walk(tree):
+        if isinstance(node, ast.Call):
+            found.extend((node.lineno, rule) for rule in call_faults(node))
+        if isinstance(node, (ast.Set, ast.SetComp)):
+            found.append((node.lineno, "L24"))
+        if isinstance(node, (ast.arg, ast.FunctionDef)):
+            if (node.annotation if isinstance(node, ast.arg) else node.returns) is not None:
+                found.append((node.lineno, "L21"))
+        if isinstance(node, ast.Raise) and not isinstance(node.exc, ast.Call):
+            found.append((node.lineno, "L19"))
+        if isinstance(node, ast.BinOp) and isinstance(node.op, ast.Pow):
+            told = node.right.value if isinstance(node.right, ast.Constant) else None
+            if told is None or not 0 <= told <= 64:
+                found.append((node.lineno, "L27"))
+        if isinstance(node, ast.Attribute) and isinstance(node.ctx, ast.Store) and node.attr in NO_VALUES:
+            found.append((node.lineno, "L26"))
+        if isinstance(node, ast.FunctionDef):
+            plain = all(is_plain(part, ()) for part in node.args.defaults)
+            found.extend([] if plain else [(node.lineno, "L4")])
+            if node.name == "__init__" and any(isinstance(part, ast.Return) for part in ast.walk(node)):
+                found.append((node.lineno, "L28"))
+    lambdas = [(node.lineno, ast.unparse(node.args)) for node in ast.walk(tree) if isinstance(node, ast.Lambda)]
+    found.extend((line, "L13") for line, told in set(lambdas) if lambdas.count((line, told)) > 1)
+    return found
+
+
+def values_of(source):
+    """The names of the values that a file's objects are given."""
+    return [
+        node.attr for node in ast.walk(ast.parse(source))
+        if isinstance(node, ast.Attribute) and isinstance(node.ctx, ast.Store)
+    ]
+
+
 def node_faults(node, package, methods):
     if not isinstance(node, STATEMENTS + EXPRESSIONS):
         return ["L6" if isinstance(node, ast.stmt) else "L7"]
@@ -186,7 +373,8 @@ def methods_of(source):
 def faults_of(source, package="stylehouse", methods=()):
     """The faults of a file's text: tuples (line, rule), by lines; methods are those of the package's own classes."""
     tree = ast.parse(source)
-    found = signs_of(source) + top_of(tree)
+    found = signs_of(source) + top_of(tree) + top_value_faults(tree) + local_faults(tree) + walk_faults(tree)
+    found.extend(handed_faults(tree, methods) + other_faults(tree))
     for node in ast.walk(tree):
         for rule in node_faults(node, package, methods):
             found.append((getattr(node, "lineno", 0), rule))

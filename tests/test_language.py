@@ -4,7 +4,7 @@ import ast
 import unittest
 from pathlib import Path
 
-from language import drawn_by, faults_of, methods_of
+from language import drawn_by, faults_of, methods_of, values_of
 
 PACKAGE = Path(__file__).resolve().parent.parent / "stylehouse"
 
@@ -42,6 +42,33 @@ OUTSIDE = (
     ("def f(a, b):\n    return a is b\n", "L20"),
     ("def f(a):\n    a.sort()\n", "L25"),
     ("A = '50%'\n", "L27"),
+    ("A = 10 ** 30\n", "L3"),
+    ("A = len('a')\n", "L3"),
+    ("A = [[1], [2]]\n", "L15"),
+    ("A = {'a': {'b': 1}}\n", "L15"),
+    ("from stylehouse.errors import NoBox\n\n\ndef f(a):\n    NoBox = a\n    return NoBox\n", "L15"),
+    ("from stylehouse.shares import total\n\n\ndef f(total):\n    return total\n", "L15"),
+    ("def f(a):\n    for hash in a:\n        pass\n", "L15"),
+    ("def f(a):\n    b = zip(a, a)\n    return list(b)\n", "L23"),
+    ("def f(a):\n    return a.items()\n", "L23"),
+    ("def f(a):\n    return list(reversed(range(a)))\n", "L23"),
+    ("def f(a):\n    a.extend(reversed(a))\n", "L23"),
+    ("def f(a):\n    for b in a:\n        a.append(b)\n", "L23"),
+    ("def f(a):\n    for b in a:\n        a[b] = 1\n", "L23"),
+    ("def f(a):\n    for b, c in a.items():\n        a.pop(b)\n", "L23"),
+    ("def f(a):\n    return set(a)\n", "L24"),
+    ("def f(a):\n    return sorted(a, reversed=True)\n", "L22"),
+    ("def f(a):\n    return a.split(' ', maxsplit=1)\n", "L22"),
+    ("def f(a):\n    b = len\n    return b(a)\n", "L22"),
+    ("class A:\n    def least(self):\n        return self.least\n", "L25"),
+    ("class A:\n    pass\n\n\ndef f():\n    return [A]\n", "L18"),
+    ("def f(a: int):\n    return a\n", "L21"),
+    ("def f(a, b=len(())):\n    return a\n", "L4"),
+    ("def f(a):\n    raise a\n", "L19"),
+    ("def f(a):\n    return 10 ** a\n", "L27"),
+    ("class A:\n    def __init__(self):\n        self.values = 1\n", "L26"),
+    ("class A:\n    def __init__(self):\n        return None\n", "L28"),
+    ("def f(a):\n    return [lambda b: b, lambda b: a]\n", "L13"),
 )
 
 WITHIN = (
@@ -75,7 +102,7 @@ class CheckTest(unittest.TestCase):
     def test_it_sees_what_lies_outside(self):
         for source, rule in OUTSIDE:
             with self.subTest(source=source, rule=rule):
-                self.assertIn(rule, [fault[1] for fault in faults_of(source)])
+                self.assertIn(rule, [fault[1] for fault in faults_of(source, methods=methods_of(source))])
 
     def test_it_takes_what_lies_within(self):
         self.assertEqual(faults_of(WITHIN, methods=methods_of(WITHIN)), [])
@@ -91,6 +118,10 @@ class PackageTest(unittest.TestCase):
         for name, source in sources().items():
             with self.subTest(name=name):
                 self.assertEqual(faults_of(source, methods=own_methods()), [])
+
+    def test_no_name_is_both_a_method_and_a_value(self):
+        values = sum([values_of(source) for source in sources().values()], [])
+        self.assertEqual(sorted(set(values) & set(own_methods())), [])
 
     def test_names_are_drawn_from_the_file_that_defines_them(self):
         known = sources()
