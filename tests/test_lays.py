@@ -120,6 +120,8 @@ class NaturalTest(LaysCase):
         self.natural(keeping(least=part(9), most=3), [5], 3)
         self.natural(keeping(least=7, most=part(0)), [5], 7)
         self.natural(keeping(most=0, pad=4), [5], 0)
+        self.natural(keeping(least=part(9)), [], 0)
+        self.natural(keeping(least=part(9)), [Fraction(1, 3)], Fraction(1, 3))
 
 
 class RoomTest(LaysCase):
@@ -244,6 +246,11 @@ class RaisedTest(LaysCase):
         self.rises(keeping(), [1, 1], [2, 3], 5, [0, 2], [2, 3])
         self.rises(keeping(pad=1, gap=HALF), [1, 1, 1], [2, 3, 4], 12, [1, Fraction(7, 2), 7], [2, 3, 4])
         self.rises(keeping(pad=1, gap=2), [2, 1], [2, 5, 4], 13, [1, 1, 8], [2, 5, 4])
+
+    def test_lines_lower_than_one(self):
+        third = Fraction(1, 3)
+        self.rises(keeping(stand="bottom"), [2, 1], [third, HALF, 0], HALF, [Fraction(1, 6), 0, HALF], [third, HALF, 0])
+        self.rises(keeping(stand="full"), [1, 1], [0, third], third, [0, 0], [0, third])
 
     def test_tall(self):
         for tall, due in ((0, 7), (7, 7), (Fraction(29, 4), Fraction(29, 4)), (100, 100)):
