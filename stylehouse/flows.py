@@ -1,6 +1,6 @@
 """Flows: how a row of things is broken into lines of a room."""
 
-from stylehouse.shares import divisor_of, less, minus, plus, times, total
+from stylehouse.shares import divisor_of, greatest, minus, plus, times, total
 
 
 class Flow:
@@ -19,7 +19,7 @@ class Flow:
 
     def breadth(self, widths, gap):
         if self.word == "stack":
-            return widest(widths)
+            return greatest(widths)
         return span_of(widths, gap)
 
 
@@ -49,14 +49,6 @@ def span_of(widths, gap):
     if widths == []:
         return (0, 1)
     return plus(total(widths), times(gap, (len(widths) - 1, 1)))
-
-
-def widest(widths):
-    found = (0, 1)
-    for width in widths:
-        if less(found, width):
-            found = width
-    return found
 
 
 def counted(ends):

@@ -3,7 +3,7 @@
 from stylehouse.deal import dealt
 from stylehouse.flows import flow_of
 from stylehouse.props import start_of
-from stylehouse.shares import fraction, held, less, minus, over, plus, times, total
+from stylehouse.shares import fraction, greatest, held, less, minus, over, plus, times, total
 
 
 def spans_of(words, size, measure=None):
@@ -124,7 +124,7 @@ def raised(values, counts, heights):
     place = 0
     for count in counts:
         things = heights[place:place + count]
-        line = highest(things)
+        line = greatest(things)
         for height in things:
             ys.append(plus(top, below_top(values["stand"][1], line, height)))
             talls.append(line if values["stand"][1] == "full" else height)
@@ -133,14 +133,6 @@ def raised(values, counts, heights):
         place += count
     own = plus(bottom, pad)
     return (held(own, number_of(values["tall"]), None), ys, talls)
-
-
-def highest(heights):
-    found = (0, 1)
-    for height in heights:
-        if less(found, height):
-            found = height
-    return found
 
 
 def below_top(stand, line, height):

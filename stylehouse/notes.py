@@ -25,15 +25,22 @@ def show_ratio(top, bottom):
     return f"{top}" if bottom == 1 else f"{top}/{bottom}"
 
 
-def read_ratio(text):
+def read_pair(text, other):
+    # Two whole numbers with a stroke between, or one alone, to which the other one is added.
     parts = text.split("/")
-    top = read_whole(parts[0])
+    if len(parts) > 2:
+        raise NoText("there is a stroke too many")
     if len(parts) == 1:
-        return (top, 1)
-    bottom = read_whole(parts[1])
-    if len(parts) > 2 or bottom < 2:
+        return (read_whole(text), other)
+    return (read_whole(parts[0]), read_whole(parts[1]))
+
+
+def read_ratio(text):
+    found = read_pair(text, 1)
+    # A bottom of 1 isn't written, so one stands there only where there is no stroke.
+    if found[1] == 0 or text.endswith("/1"):
         raise NoText("this writes no fraction")
-    return (top, bottom)
+    return found
 
 
 def show_fraction(one):

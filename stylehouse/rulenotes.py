@@ -2,7 +2,7 @@
 
 from stylehouse.errors import NoText
 from stylehouse.names import is_name
-from stylehouse.notes import read_row, read_whole, show_row
+from stylehouse.notes import read_pair, read_row, read_whole, show_row
 
 SIGNS = (".", "!", "@", "^")
 JOINS = (">", "+", "~")
@@ -80,14 +80,10 @@ def read_trait(sign, text):
 
 
 def read_count(text):
-    parts = text.split("/")
-    first = read_whole(parts[0])
-    if len(parts) == 1:
-        return (first, 0)
-    step = read_whole(parts[1])
-    if len(parts) > 2 or step == 0:
+    # Without a step from place to place there is no stroke either.
+    if text.endswith("/0"):
         raise NoText("a step from place to place is from 1 on")
-    return (first, step)
+    return read_pair(text, 0)
 
 
 def checked_name(text):

@@ -72,6 +72,15 @@ def less(one, other):
     return one[0] * other[1] < other[0] * one[1]
 
 
+def greatest(some):
+    # Of fractions not below nought; of none it is nought.
+    result = NOUGHT
+    for one in some:
+        if less(result, one):
+            result = one
+    return result
+
+
 def held(one, low, high):
     if less(one, low):
         return low
