@@ -6,7 +6,7 @@ from math import gcd
 from random import Random
 
 from stylehouse.errors import HouseError, NoFraction
-from stylehouse.shares import fraction, held, less, minus, over, plus, times, total
+from stylehouse.shares import fraction, greatest, held, less, minus, over, plus, times, total
 
 HALF = (1, 2)
 THIRD = (1, 3)
@@ -288,6 +288,17 @@ class LessTest(SharesCase):
         big = 10 ** 200
         self.assertIs(less((big, big + 1), (big + 1, big + 2)), True)
         self.assertIs(less((big + 1, big + 2), (big, big + 1)), False)
+
+
+class GreatestTest(SharesCase):
+    def test_of_none_and_of_some(self):
+        self.is_told(greatest([]), 0, 1)
+        self.is_told(greatest([NOUGHT, NOUGHT]), 0, 1)
+        self.is_told(greatest([THIRD]), 1, 3)
+        for some in ([HALF, THIRD, NOUGHT], [THIRD, HALF, NOUGHT], [NOUGHT, THIRD, HALF]):
+            same = list(some)
+            self.is_told(greatest(some), 1, 2)
+            self.assertEqual(some, same)
 
 
 class HeldTest(SharesCase):
